@@ -1,0 +1,1 @@
+"""Quotientcells: dividers that take one digit a step from a table."""

@@ -1,0 +1,17 @@
+"""The plain kinds of values that all parts of the package ask for."""
+
+
+def is_integer(thing):
+    """Whether any value is an integer."""
+    # Python counts True and False as ints; here they are not integers.
+    return isinstance(thing, int) and not isinstance(thing, bool)
+
+
+def is_natural(thing):
+    """Whether any value is an integer from 0 on."""
+    return is_integer(thing) and thing >= 0
+
+
+def is_pair(thing):
+    """Whether any value is a tuple of two items."""
+    return isinstance(thing, tuple) and len(thing) == 2
