@@ -15,3 +15,8 @@ def is_natural(thing):
 def is_pair(thing):
     """Whether any value is a tuple of two items."""
     return isinstance(thing, tuple) and len(thing) == 2
+
+
+def is_triple(thing):
+    """Whether any value is a tuple of three items."""
+    return isinstance(thing, tuple) and len(thing) == 3

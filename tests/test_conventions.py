@@ -4,8 +4,10 @@ import inspect
 import unittest
 from copy import deepcopy
 
-from quotientcells import convert, digits, errors
-from samples import odd_values, wrong_integers
+from quotientcells import cells, convert, digits, errors, machines, runs
+from samples import ONE_MACHINE, odd_values, wrong_integers
+
+LOOK = (0, 0, "one")
 
 # Of each function: its file, its parameters by name, and a call's arguments and result.
 CALLS = {
@@ -20,13 +22,37 @@ CALLS = {
         convert, ("scheme", "pair", "digit"), ((1, 1), ((0, 1), (0, 0)), -1),
         ((0, 0, 1), (0, 0, 0)),
     ),
+    "is_look": (machines, ("thing",), (LOOK,), True),
+    "is_machine": (machines, ("thing",), (ONE_MACHINE,), True),
+    "is_operands": (machines, ("scheme", "kind", "thing"), ((1, 1), "one", (3, 5, 2)), True),
+    "estimate": (machines, ("machine", "remainder", "d", "n"), (ONE_MACHINE, 3, 5, 2), (0, 1)),
+    "selected": (machines, ("machine", "remainder", "d", "n"), (ONE_MACHINE, 3, 5, 2), 1),
+    "reduced": (runs, ("u", "v", "z"), (6, 3, -5), (-2, 6)),
+    "run": (runs, ("machine", "operands", "m"), (ONE_MACHINE, (3, 5, 2), 2), ((1, 0), 2)),
+    "remainders": (runs, ("machine", "operands", "m"), (ONE_MACHINE, (3, 5, 2), 2), (3, 1, 2)),
+    "is_in_bounds": (runs, ("scheme", "w", "d"), ((2, 2), 4, 5), False),
+    "is_reached": (cells, ("scheme", "look", "cell"), ((1, 1), LOOK, (0, 3)), True),
+    "reached": (cells, ("scheme", "look", "i"), ((1, 1), LOOK, 0), (-4, 3)),
+    "judge_digit": (cells, ("scheme", "look", "cell", "digit"), ((1, 1), LOOK, (0, 0), 1), ("suits",)),
+    "digit_holds": (
+        cells, ("scheme", "look", "cell", "digit", "thing"),
+        ((1, 1), LOOK, (0, 0), -1, ("operands", (1, 4, 2))), True,
+    ),
+    "suitable": (cells, ("scheme", "look", "cell"), ((1, 1), LOOK, (0, 0)), (0, 1)),
 }
 
-# The errors of the parameters other than scheme and thing.
+# The errors of the parameters other than thing.
 ERRORS = {
+    "scheme": errors.BadScheme, "look": errors.BadLook, "machine": errors.BadMachine,
+    "cell": errors.BadCell, "operands": errors.BadOperands,
     "string": errors.BadDigits, "pair": errors.BadDigits, "digit": errors.BadDigits,
-    "m": errors.BadNumber, "number": errors.BadNumber,
+    "m": errors.BadNumber, "number": errors.BadNumber, "kind": errors.BadNumber,
+    "u": errors.BadNumber, "v": errors.BadNumber, "z": errors.BadNumber,
+    "w": errors.BadNumber, "d": errors.BadNumber, "i": errors.BadNumber,
 }
+
+# These two have one error for all that stands behind the machine.
+SEEING = ("estimate", "selected")
 
 
 def outcome(function, arguments):
@@ -56,30 +82,51 @@ class ConventionsTest(unittest.TestCase):
             for _ in range(3):
                 self.assertEqual(function(*arguments), function(*arguments))
 
-    def test_scheme_accepts_any_value_and_is_first(self):
-        for name, (module, parameters, arguments, _) in CALLS.items():
-            if parameters[0] != "scheme":
+    def expect(self, name, at, called):
+        """Call a function whose argument at a place is the first one that is wrong."""
+        module, parameters, _, _ = CALLS[name]
+        found, thing = outcome(getattr(module, name), called)
+        if name in SEEING and at > 0:
+            self.assertIs(found, errors.BadOperands, (name, called))
+            self.assertEqual(thing, called[1:])
+            for one, other in zip(thing, called[1:]):
+                self.assertIs(one, other)
+        else:
+            self.assertIs(found, ERRORS[parameters[at]], (name, called))
+            self.assertIs(thing, called[at], (name, called))
+
+    def test_first_parameters_accept_any_value(self):
+        for name, (_, parameters, arguments, _) in CALLS.items():
+            if parameters[0] == "thing":
                 continue
-            function = getattr(module, name)
-            for scheme in odd_values() + wrong_integers() + [3, (2, 1), (4, 9)]:
-                all_wrong = (scheme,) + (None,) * (len(arguments) - 1)
-                for called in ((scheme,) + arguments[1:], all_wrong):
-                    found, thing = outcome(function, called)
-                    self.assertIs(found, errors.BadScheme, name)
-                    self.assertIs(thing, scheme, name)
+            for wrong in odd_values() + wrong_integers() + ["x", (2, 1), (4, 9), ((1, 1), LOOK, ())]:
+                self.expect(name, 0, (wrong,) + arguments[1:])
+                self.expect(name, 0, (wrong,) + (None,) * (len(arguments) - 1))
+
+    def test_looks_accept_any_value(self):
+        for name, (_, parameters, arguments, _) in CALLS.items():
+            if "look" not in parameters:
+                continue
+            for wrong in odd_values() + wrong_integers() + [3, (0, 0), (-1, 0, "one"), list(LOOK)]:
+                self.expect(name, 1, (arguments[0], wrong) + arguments[2:])
+                self.expect(name, 1, (arguments[0], wrong) + (None,) * (len(arguments) - 2))
 
     def test_first_wrong_argument_decides(self):
-        for name, (module, parameters, arguments, _) in CALLS.items():
-            function = getattr(module, name)
-            for at in range(1, len(parameters)):
+        for name, (_, parameters, arguments, _) in CALLS.items():
+            for at, parameter in enumerate(parameters):
+                if parameter == "thing":
+                    continue
                 for wrong in (None, True, "1", [1], [], {}, (True, None)):
                     rest = len(parameters) - at - 1
-                    one_wrong = arguments[:at] + (wrong,) + arguments[at + 1:]
-                    rest_wrong = arguments[:at] + (wrong,) + (False,) * rest
-                    for called in (one_wrong, rest_wrong):
-                        found, thing = outcome(function, called)
-                        self.assertIs(found, ERRORS[parameters[at]], (name, called))
-                        self.assertIs(thing, wrong, (name, called))
+                    self.expect(name, at, arguments[:at] + (wrong,) + arguments[at + 1:])
+                    self.expect(name, at, arguments[:at] + (wrong,) + (False,) * rest)
+
+    def test_things_are_judged_without_errors(self):
+        for name, (module, parameters, arguments, _) in CALLS.items():
+            if parameters[-1] != "thing":
+                continue
+            for thing in odd_values() + wrong_integers():
+                self.assertIs(getattr(module, name)(*arguments[:-1], thing), False)
 
     def test_arguments_are_not_changed(self):
         for name, (module, parameters, arguments, _) in CALLS.items():
@@ -104,10 +151,17 @@ class ConventionsTest(unittest.TestCase):
             deep = [deep]
         long = (1,) * 1999
         for thing in (deep, long, "a" * 3000, 10 ** 39, {"a": deep}):
-            self.assertIs(digits.is_scheme(thing), False)
-            with self.assertRaises(errors.BadScheme) as caught:
-                convert.registers(thing, ())
-            self.assertIs(caught.exception.thing, thing)
+            for function in (digits.is_scheme, machines.is_look, machines.is_machine):
+                self.assertIs(function(thing), False)
+            self.assertIs(machines.is_operands((1, 1), "one", thing), False)
+            self.assertIs(cells.digit_holds((1, 1), LOOK, (0, 0), 1, thing), False)
+            for function, rest, error in (
+                (convert.registers, ((),), errors.BadScheme),
+                (runs.run, ((3, 5, 2), 2), errors.BadMachine),
+                (machines.estimate, (3, 5, 2), errors.BadMachine),
+                (cells.suitable, (LOOK, (0, 0)), errors.BadScheme),
+            ):
+                self.assertEqual(outcome(function, (thing,) + rest), (error, thing))
 
 
 if __name__ == "__main__":
