@@ -16,7 +16,7 @@ def reached(scheme, look, i):
     """The least and the greatest y such that the cell (i, y) is reached."""
     need_scheme(scheme)
     need_look(look)
-    if not _is_part(look, i):
+    if not is_part(look, i):
         raise BadNumber(i)
     return _ends(scheme, look, i)
 
@@ -26,7 +26,7 @@ def judge_digit(scheme, look, cell, digit):
     _need_cell_and_digit(scheme, look, cell, digit)
     if suits_cell(scheme, look, cell, digit):
         return ("suits",)
-    return ("operands", _unsuited(scheme, look, cell, digit))
+    return ("operands", unsuited(scheme, look, cell, digit))
 
 
 def digit_holds(scheme, look, cell, digit, thing):
@@ -36,9 +36,7 @@ def digit_holds(scheme, look, cell, digit, thing):
         return suits_cell(scheme, look, cell, digit)
     if not is_pair(thing) or thing[0] != "operands":
         return False
-    if not is_operands(scheme, look[2], thing[1]):
-        return False
-    return _refutes(scheme, look, cell, digit, thing[1])
+    return is_against(scheme, look, cell, digit, thing[1])
 
 
 def suitable(scheme, look, cell):
@@ -55,11 +53,60 @@ def suits_cell(scheme, look, cell, digit):
     return not any(_is_left_behind(scheme, look, cell, digit, side) for side in (1, -1))
 
 
+def is_cell(look, thing):
+    """Whether any value is a cell of the look, reached or not."""
+    return is_pair(thing) and is_part(look, thing[0]) and is_integer(thing[1])
+
+
+def is_part(look, thing):
+    """Whether any value is an integer from 0 to 2 ** s - 1."""
+    # Bits are counted since 2 ** s is out of reach for a great s.
+    return is_natural(thing) and thing.bit_length() <= look[1]
+
+
+def reached_cells(scheme, look):
+    """The list of all reached cells of the look, ascending."""
+    cells = []
+    for i in range(1 << look[1]):
+        least, most = _ends(scheme, look, i)
+        cells.extend([(i, y) for y in range(least, most + 1)])
+    return cells
+
+
+def is_against(scheme, look, cell, digit, thing):
+    """Whether any value is operands that fall into the cell and that the digit does not suit."""
+    if not is_operands(scheme, look[2], thing):
+        return False
+    dividend, d, n = thing
+    if cell_of(scheme, look, dividend, d, n) != cell:
+        return False
+    return not suits_operands(scheme, look[2], thing, digit)
+
+
+def suits_operands(scheme, kind, operands, digit):
+    """Whether the digit suits the operands."""
+    dividend, d, _ = operands
+    return is_within(scheme, (whole(kind, dividend) << scheme[0]) - digit * d, d)
+
+
+def unsuited(scheme, look, cell, digit):
+    """Operands that fall into the cell and that the digit does not suit; there are some."""
+    # With the width the outermost operands come as near to the corner as one
+    # likes, so the search ends; within the limits it does so far below width 40.
+    n = max(scheme[0] + look[0], look[1])
+    while True:
+        for side in (1, -1):
+            operands = _outermost(scheme, look, cell, n, side)
+            if is_against(scheme, look, cell, digit, operands):
+                return operands
+        n += 1
+
+
 def _need_cell(scheme, look, cell):
     """Raise the error of the first argument that is wrong, if one is."""
     need_scheme(scheme)
     need_look(look)
-    if not is_pair(cell) or not _is_part(look, cell[0]) or not is_integer(cell[1]):
+    if not is_cell(look, cell):
         raise BadCell(cell)
 
 
@@ -68,12 +115,6 @@ def _need_cell_and_digit(scheme, look, cell, digit):
     _need_cell(scheme, look, cell)
     if not is_digit(scheme, digit):
         raise BadDigits(digit)
-
-
-def _is_part(look, thing):
-    """Whether any value is an integer from 0 to 2 ** s - 1."""
-    # Bits are counted since 2 ** s is out of reach for a great s.
-    return is_natural(thing) and thing.bit_length() <= look[1]
 
 
 def _spread(look):
@@ -124,29 +165,6 @@ def _is_left_behind(scheme, look, cell, digit, side):
 def _edge(look, y, side):
     """The end of what the shifted remainders of a cell fill, on a side."""
     return y + _spread(look) if side == 1 else y
-
-
-def _unsuited(scheme, look, cell, digit):
-    """Operands that fall into the cell and that the digit does not suit; there are some."""
-    # With the width the outermost operands come as near to the corner as one
-    # likes, so the search ends; within the limits it does so far below width 40.
-    n = max(scheme[0] + look[0], look[1])
-    while True:
-        for side in (1, -1):
-            operands = _outermost(scheme, look, cell, n, side)
-            if is_operands(scheme, look[2], operands):
-                if _refutes(scheme, look, cell, digit, operands):
-                    return operands
-        n += 1
-
-
-def _refutes(scheme, look, cell, digit, operands):
-    """Whether operands fall into the cell and the digit does not suit them."""
-    dividend, d, n = operands
-    if cell_of(scheme, look, dividend, d, n) != cell:
-        return False
-    w = (whole(look[2], dividend) << scheme[0]) - digit * d
-    return not is_within(scheme, w, d)
 
 
 def _outermost(scheme, look, cell, n, side):

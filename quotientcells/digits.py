@@ -1,9 +1,7 @@
 """Schemes, and the integers that strings of signed digits stand for."""
 
-from math import gcd
-
 from quotientcells.errors import BadDigits, BadNumber, BadScheme
-from quotientcells.kinds import is_integer, is_natural, is_pair
+from quotientcells.kinds import as_fraction, is_integer, is_natural, is_pair
 
 
 def is_scheme(thing):
@@ -46,10 +44,7 @@ def need_string(scheme, string):
 def bound(scheme):
     """The bound of a scheme, a fraction."""
     need_scheme(scheme)
-    top = scheme[1]
-    bottom = radix(scheme) - 1
-    common = gcd(top, bottom)
-    return (top // common, bottom // common)
+    return as_fraction(scheme[1], radix(scheme) - 1)
 
 
 def value(scheme, string):

@@ -1,5 +1,7 @@
 """The plain kinds of values that all parts of the package ask for."""
 
+from math import gcd
+
 
 def is_integer(thing):
     """Whether any value is an integer."""
@@ -20,3 +22,19 @@ def is_pair(thing):
 def is_triple(thing):
     """Whether any value is a tuple of three items."""
     return isinstance(thing, tuple) and len(thing) == 3
+
+
+def is_fraction(thing):
+    """Whether any value is a fraction."""
+    if not is_pair(thing):
+        return False
+    top, bottom = thing
+    if not is_integer(top) or not is_integer(bottom):
+        return False
+    return bottom > 0 and gcd(top, bottom) == 1
+
+
+def as_fraction(top, bottom):
+    """The fraction of an integer and one above 0."""
+    common = gcd(top, bottom)
+    return (top // common, bottom // common)

@@ -16,14 +16,14 @@ def reduced(u, v, z):
 
 def run(machine, operands, m):
     """The digits of a run with m steps, and the last remainder."""
-    _need_run(machine, operands, m)
+    need_run(machine, operands, m)
     string, passed = _followed(machine, operands, m)
     return (tuple(string), passed[-1])
 
 
 def remainders(machine, operands, m):
     """The dividend and the remainders after each step of a run."""
-    _need_run(machine, operands, m)
+    need_run(machine, operands, m)
     _, passed = _followed(machine, operands, m)
     return tuple(passed)
 
@@ -38,11 +38,16 @@ def is_in_bounds(scheme, w, d):
     return is_within(scheme, w, d)
 
 
-def _need_run(machine, operands, m):
+def need_run(machine, operands, m):
     """Raise the error of the first argument that is wrong, if one is."""
     need_machine(machine)
     scheme, look, _ = machine
-    if not is_operands(scheme, look[2], operands):
+    need_start(scheme, look[2], operands, m)
+
+
+def need_start(scheme, kind, operands, m):
+    """Raise the error of the operands, or else that of the number of steps, if one is wrong."""
+    if not is_operands(scheme, kind, operands):
         raise BadOperands(operands)
     if not is_natural(m):
         raise BadNumber(m)

@@ -3,7 +3,7 @@
 from fractions import Fraction
 from functools import lru_cache
 from itertools import product
-from math import ceil, floor
+from math import ceil, floor, trunc
 
 # All schemes there are, written out so that no code of the program is trusted.
 SCHEMES = ((1, 1), (2, 2), (2, 3), (3, 4), (3, 5), (3, 6), (3, 7))
@@ -32,6 +32,16 @@ def wrong_integers():
     return [None, True, False, "", "3", (), (3,), [3], {3: 3}, (3, 0), "three"]
 
 
+MODES = ("down", "up", "zero", "even")
+
+
+def wrong_modes():
+    """Values that are no modes."""
+    return odd_values() + wrong_integers() + [
+        "Down", "DOWN", "down ", " up", "evens", "odd", "half", "nearest", "z", ("down",), ["up"],
+    ]
+
+
 def all_strings(scheme, m):
     a = scheme[1]
     return product(range(-a, a + 1), repeat=m)
@@ -51,6 +61,22 @@ LOOKS = tuple(
 # The machines of the document's examples; both are right.
 ONE_MACHINE = ((1, 1), (0, 0, "one"), ((-4, (-1, -1, -1, 0, 0, 1, 1, 1)),))
 PAIR_MACHINE = ((1, 1), (0, 0, "pair"), ((-5, (-1, -1, -1, -1, 0, 1, 1, 1, 1)),))
+
+# The first one with a digit changed, so that one cell is wrong.
+WRONG_MACHINE = ((1, 1), (0, 0, "one"), ((-4, (-1, -1, -1, 0, 0, 0, 1, 1)),))
+
+# Values that are no operands of the scheme (1, 1) and the kind "one".
+WRONG_OPERANDS = [
+    (3, 5), (3, 5, 2, 2), [3, 5, 2], (6, 5, 2), (-6, 5, 2), (3, 3, 2), (3, 8, 2), (0, 1, 0),
+    (True, 5, 2), (3, 5, True), (3, True, 2), (None, 5, 2), (3, "5", 2), ((3, 5, 2),),
+]
+
+
+# The same for pairs of words.
+WRONG_PAIRS = WRONG_OPERANDS + [
+    (3, 5, 2), ((3,), 5, 2), ([3, 0], 5, 2), ((True, 0), 5, 2), ((6, 0), 5, 2), ((3, 3), 5, 2),
+    ((0, 0, 0), 5, 2),
+]
 
 
 def words_of(kind, remainder):
@@ -131,16 +157,105 @@ def outline_digits(scheme, corners):
 
 
 @lru_cache(maxsize=None)
-def outline_machine(scheme, look):
-    """A machine with, for each cell, the greatest digit that suits it; 0 where none does."""
+def outline_lots(scheme, look):
+    """For each row a dict of the digits that suit each reached y, ascending."""
     k, a = scheme
     beyond = ceil(Fraction(2 ** k * a * 2 * 2 ** look[0], 2 ** k - 1)) + 2
-    table = []
+    rows = []
     for i in range(2 ** look[1]):
-        rows = {}
-        for y in range(-beyond, beyond):
-            corners = outline(scheme, look, (i, y))
-            if corners:
-                rows[y] = (outline_digits(scheme, corners) or (0,))[-1]
-        table.append((min(rows), tuple(rows[y] for y in sorted(rows))))
-    return (scheme, look, tuple(table))
+        outlines = {y: outline(scheme, look, (i, y)) for y in range(-beyond, beyond)}
+        rows.append({y: outline_digits(scheme, found) for y, found in outlines.items() if found})
+    return tuple(rows)
+
+
+def outline_machine(scheme, look):
+    """A machine with, for each cell, the greatest digit that suits it; 0 where none does."""
+    rows = outline_lots(scheme, look)
+    table = tuple((min(row), tuple((lot or (0,))[-1] for lot in row.values())) for row in rows)
+    return (scheme, look, table)
+
+
+def plain_right(machine):
+    """Whether each reached cell has a digit that suits it."""
+    scheme, look, table = machine
+    for (lowest, string), row in zip(table, outline_lots(scheme, look)):
+        known = dict(enumerate(string, lowest))
+        if not all(known.get(y) in lot for y, lot in row.items()):
+            return False
+    return True
+
+
+def with_digit(machine, i, y, digit):
+    """The machine with another digit in a cell of its table."""
+    scheme, look, table = machine
+    lowest, string = table[i]
+    at = y - lowest
+    row = (lowest, string[:at] + (digit,) + string[at + 1:])
+    return (scheme, look, table[:i] + (row,) + table[i + 1:])
+
+
+def bit(word, place):
+    return word >> place & 1
+
+
+def plain_reduced(u, v, z):
+    """The words of [4.1], bit by bit; the last place stands for all further ones."""
+    places = max(word.bit_length() for word in (u, v, z)) + 1
+    p = c = 0
+    for place in range(places + 1):
+        bits = bit(u, place) + bit(v, place) + bit(z, place)
+        weight = -2 ** places if place == places else 2 ** place
+        p += weight * (bits % 2)
+        c += weight * (bits >= 2)
+    return (p, 2 * c)
+
+
+def plain_run(machine, operands, m):
+    """The digits and the remainders of a run, by fractions and sums of words bit by bit."""
+    scheme, look, table = machine
+    remainder, d, n = operands
+    r = 2 ** scheme[0]
+    string, passed = (), (remainder,)
+    for _ in range(m):
+        i, y = plain_cell(scheme, look, remainder, d, n)
+        lowest, digits = table[i]
+        known = dict(enumerate(digits, lowest))
+        if y not in known:
+            break
+        q = known[y]
+        if look[2] == "one":
+            remainder = r * remainder - q * d
+        else:
+            p, c = remainder
+            remainder = plain_reduced(r * p, r * c, -q * d)
+        string += (q,)
+        passed += (remainder,)
+    return string, passed
+
+
+def plain_finished(machine, operands, m):
+    """The pair of [6.1], None if the run ends early."""
+    string, passed = plain_run(machine, operands, m)
+    if len(string) < m:
+        return None
+    quotient, w = plain_value(machine[0], string), sum(words_of(machine[1][2], passed[-1]))
+    step = -1 if w < 0 else 1 if w >= operands[1] else 0
+    return (quotient + step, w - step * operands[1])
+
+
+def plain_quotient(scheme, kind, operands, m):
+    """The exact quotient of operands, with m steps."""
+    dividend, d, _ = operands
+    return Fraction(sum(words_of(kind, dividend)) * 2 ** (scheme[0] * m), d)
+
+
+def plain_errs(machine, operands, m):
+    """Whether the run ends early or its quotient is not the exact one, rounded down."""
+    scheme, look, _ = machine
+    end = plain_finished(machine, operands, m)
+    return end is None or end[0] != floor(plain_quotient(scheme, look[2], operands, m))
+
+
+def plain_rounded(fraction, mode):
+    """A fraction rounded by the functions of Python; its round is the mode "even"."""
+    return {"down": floor, "up": ceil, "zero": trunc, "even": round}[mode](fraction)

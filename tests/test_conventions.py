@@ -4,8 +4,10 @@ import inspect
 import unittest
 from copy import deepcopy
 
-from quotientcells import cells, convert, digits, errors, machines, runs
-from samples import ONE_MACHINE, odd_values, wrong_integers
+from quotientcells import (
+    cells, convert, digits, errors, judge, machines, rounding, runs, tables,
+)
+from samples import ONE_MACHINE, PAIR_MACHINE as PAIR, WRONG_MACHINE, odd_values, wrong_integers
 
 LOOK = (0, 0, "one")
 
@@ -39,16 +41,40 @@ CALLS = {
         ((1, 1), LOOK, (0, 0), -1, ("operands", (1, 4, 2))), True,
     ),
     "suitable": (cells, ("scheme", "look", "cell"), ((1, 1), LOOK, (0, 0)), (0, 1)),
+    "judge_machine": (judge, ("machine",), (ONE_MACHINE,), ("right",)),
+    "machine_holds": (judge, ("machine", "thing"), (WRONG_MACHINE, ("errs", (3, 4, 2), 2)), True),
+    "is_right": (judge, ("machine",), (WRONG_MACHINE,), False),
+    "finished": (judge, ("machine", "operands", "m"), (ONE_MACHINE, (3, 5, 2), 4), (9, 3)),
+    "choices": (
+        tables, ("scheme", "look"), ((1, 1), LOOK),
+        ((-4, ((-1,), (-1,), (-1,), (-1, 0), (0, 1), (1,), (1,), (1,))),),
+    ),
+    "make_machine": (tables, ("scheme", "look"), ((2, 2), LOOK), None),
+    "many_machines": (tables, ("scheme", "look"), ((1, 1), LOOK), 4),
+    "judge_look": (tables, ("scheme", "look"), ((1, 1), PAIR[1]), ("machine", PAIR)),
+    "look_holds": (
+        tables, ("scheme", "look", "thing"), ((1, 1), LOOK, ("machine", ONE_MACHINE)), True,
+    ),
+    "least_looks": (tables, ("scheme", "kind", "most"), ((2, 2), "one", 4), ((2, 3),)),
+    "exact": (
+        rounding, ("scheme", "kind", "operands", "m", "mode"),
+        ((1, 1), "one", (-3, 5, 2), 4, "even"), -10,
+    ),
+    "divide": (
+        rounding, ("machine", "operands", "m", "mode"), (ONE_MACHINE, (3, 5, 2), 4, "up"), 10,
+    ),
+    "rounded": (rounding, ("fraction", "mode"), ((5, 2), "even"), 2),
 }
 
 # The errors of the parameters other than thing.
 ERRORS = {
     "scheme": errors.BadScheme, "look": errors.BadLook, "machine": errors.BadMachine,
-    "cell": errors.BadCell, "operands": errors.BadOperands,
+    "cell": errors.BadCell, "operands": errors.BadOperands, "mode": errors.BadMode,
     "string": errors.BadDigits, "pair": errors.BadDigits, "digit": errors.BadDigits,
     "m": errors.BadNumber, "number": errors.BadNumber, "kind": errors.BadNumber,
     "u": errors.BadNumber, "v": errors.BadNumber, "z": errors.BadNumber,
     "w": errors.BadNumber, "d": errors.BadNumber, "i": errors.BadNumber,
+    "most": errors.BadNumber, "fraction": errors.BadNumber,
 }
 
 # These two have one error for all that stands behind the machine.
@@ -99,7 +125,7 @@ class ConventionsTest(unittest.TestCase):
         for name, (_, parameters, arguments, _) in CALLS.items():
             if parameters[0] == "thing":
                 continue
-            for wrong in odd_values() + wrong_integers() + ["x", (2, 1), (4, 9), ((1, 1), LOOK, ())]:
+            for wrong in odd_values() + wrong_integers() + ["x", (2, 6), (9, -4), ((1, 1), LOOK, ())]:
                 self.expect(name, 0, (wrong,) + arguments[1:])
                 self.expect(name, 0, (wrong,) + (None,) * (len(arguments) - 1))
 

@@ -4,54 +4,9 @@ from random import Random
 from quotientcells.errors import BadMachine, BadNumber, BadOperands, BadScheme
 from quotientcells.runs import is_in_bounds, reduced, remainders, run
 from samples import (
-    LOOKS, ONE_MACHINE, PAIR_MACHINE, SCHEMES, all_operands, odd_values, outline_machine,
-    plain_bounds, plain_cell, plain_value, words_of, wrong_integers,
+    LOOKS, ONE_MACHINE, PAIR_MACHINE, SCHEMES, WRONG_OPERANDS, WRONG_PAIRS, all_operands,
+    odd_values, outline_machine, plain_bounds, plain_reduced, plain_run, plain_value, words_of, wrong_integers,
 )
-
-WRONG_OPERANDS = [
-    (3, 5), (3, 5, 2, 2), [3, 5, 2], (6, 5, 2), (-6, 5, 2), (3, 3, 2), (3, 8, 2), (0, 1, 0),
-    (True, 5, 2), (3, 5, True), (3, True, 2), (None, 5, 2), (3, "5", 2), ((3, 5, 2),),
-]
-
-
-def bit(word, place):
-    return word >> place & 1
-
-
-def plain_reduced(u, v, z):
-    """The words of [4.1], bit by bit; the last place stands for all further ones."""
-    places = max(word.bit_length() for word in (u, v, z)) + 1
-    p = c = 0
-    for place in range(places + 1):
-        bits = bit(u, place) + bit(v, place) + bit(z, place)
-        weight = -2 ** places if place == places else 2 ** place
-        p += weight * (bits % 2)
-        c += weight * (bits >= 2)
-    return (p, 2 * c)
-
-
-def plain_run(machine, operands, m):
-    """The digits and the remainders of a run, by fractions and sums of words bit by bit."""
-    scheme, look, table = machine
-    remainder, d, n = operands
-    r = 2 ** scheme[0]
-    string, passed = (), (remainder,)
-    for _ in range(m):
-        i, y = plain_cell(scheme, look, remainder, d, n)
-        lowest, digits = table[i]
-        known = dict(enumerate(digits, lowest))
-        if y not in known:
-            break
-        q = known[y]
-        if look[2] == "one":
-            remainder = r * remainder - q * d
-        else:
-            p, c = remainder
-            remainder = plain_reduced(r * p, r * c, -q * d)
-        string += (q,)
-        passed += (remainder,)
-    return string, passed
-
 
 class ReducedTest(unittest.TestCase):
     def test_example(self):
@@ -224,10 +179,7 @@ class RunTest(unittest.TestCase):
 
     def test_wrong_operands(self):
         wrong_ones = odd_values() + wrong_integers() + WRONG_OPERANDS + [((3, 0), 5, 2)]
-        wrong_pairs = odd_values() + wrong_integers() + WRONG_OPERANDS + [
-            (3, 5, 2), ((3,), 5, 2), ([3, 0], 5, 2), ((True, 0), 5, 2), ((6, 0), 5, 2), ((3, 3), 5, 2),
-            ((0, 0, 0), 5, 2),
-        ]
+        wrong_pairs = odd_values() + wrong_integers() + WRONG_PAIRS
         for machine, wrong in ((ONE_MACHINE, wrong_ones), (PAIR_MACHINE, wrong_pairs)):
             for operands in wrong:
                 for m in (1, None, -1, True):
