@@ -14,6 +14,11 @@ def is_natural(thing):
     return is_integer(thing) and thing >= 0
 
 
+def is_count(thing):
+    """Whether any value is an integer from 1 on."""
+    return is_integer(thing) and thing >= 1
+
+
 def is_pair(thing):
     """Whether any value is a tuple of two items."""
     return isinstance(thing, tuple) and len(thing) == 2

@@ -40,7 +40,20 @@ def is_machine(thing):
     # A look may ask for so many rows that their number cannot be worked out.
     if look[1] >= len(table).bit_length() or len(table) != 1 << look[1]:
         return False
-    return all(_is_row(scheme, row) for row in table)
+    return all(is_row(scheme, row) for row in table)
+
+
+def is_row(scheme, thing):
+    """Whether any value is a row of the scheme."""
+    if not is_pair(thing):
+        return False
+    lowest, string = thing
+    return is_integer(lowest) and is_string(scheme, string) and len(string) > 0
+
+
+def is_machine_of(kind, thing):
+    """Whether any value is a machine of the kind."""
+    return is_machine(thing) and thing[1][2] == kind
 
 
 def need_machine(machine):
@@ -109,14 +122,6 @@ def _need_sight(machine, remainder, d, n):
     kind = machine[1][2]
     if not _is_remainder(kind, remainder) or not _is_divisor(d, n):
         raise BadOperands((remainder, d, n))
-
-
-def _is_row(scheme, thing):
-    """Whether any value is a row of the scheme."""
-    if not is_pair(thing):
-        return False
-    lowest, string = thing
-    return is_integer(lowest) and is_string(scheme, string) and len(string) > 0
 
 
 def _is_remainder(kind, thing):

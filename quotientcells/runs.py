@@ -2,7 +2,7 @@
 
 from quotientcells.digits import need_scheme
 from quotientcells.errors import BadNumber, BadOperands
-from quotientcells.kinds import is_integer, is_natural
+from quotientcells.kinds import is_count, is_integer, is_natural
 from quotientcells.machines import cell_of, digit_at, is_operands, is_within, need_machine
 
 
@@ -33,7 +33,7 @@ def is_in_bounds(scheme, w, d):
     need_scheme(scheme)
     if not is_integer(w):
         raise BadNumber(w)
-    if not is_integer(d) or d < 1:
+    if not is_count(d):
         raise BadNumber(d)
     return is_within(scheme, w, d)
 

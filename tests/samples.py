@@ -58,6 +58,14 @@ LOOKS = tuple(
     (t, s, kind) for t in range(4) for s in range(4 - t) for kind in ("one", "pair")
 )
 
+# Schemes and looks with a right machine.
+RIGHT = (
+    ((1, 1), (0, 0, "one")), ((1, 1), (0, 0, "pair")), ((1, 1), (2, 1, "pair")),
+    ((2, 2), (2, 3, "one")), ((2, 2), (3, 3, "pair")), ((2, 3), (0, 1, "one")),
+    ((2, 3), (1, 2, "pair")), ((3, 6), (1, 4, "one")), ((3, 7), (1, 3, "one")),
+    ((3, 7), (2, 3, "pair")),
+)
+
 # The machines of the document's examples; both are right.
 ONE_MACHINE = ((1, 1), (0, 0, "one"), ((-4, (-1, -1, -1, 0, 0, 1, 1, 1)),))
 PAIR_MACHINE = ((1, 1), (0, 0, "pair"), ((-5, (-1, -1, -1, -1, 0, 1, 1, 1, 1)),))
@@ -259,3 +267,74 @@ def plain_errs(machine, operands, m):
 def plain_rounded(fraction, mode):
     """A fraction rounded by the functions of Python; its round is the mode "even"."""
     return {"down": floor, "up": ceil, "zero": trunc, "even": round}[mode](fraction)
+
+
+def plain_to_bits(fraction, p, mode):
+    """A fraction rounded to p bits as [9.2] says, as a binary number."""
+    if fraction == 0:
+        return (0, 0)
+    e = 0
+    while abs(fraction) >= 2 ** p * Fraction(2) ** e:
+        e += 1
+    while abs(fraction) < 2 ** (p - 1) * Fraction(2) ** e:
+        e -= 1
+    m = plain_rounded(fraction / Fraction(2) ** e, mode)
+    while m % 2 == 0:
+        m, e = m // 2, e + 1
+    return (m, e)
+
+
+def number_of(binary):
+    """The fraction that a binary number stands for."""
+    return binary[0] * Fraction(2) ** binary[1]
+
+
+def plain_output(machine, logic, cell):
+    """The output of a logic for a cell, by words written in binary."""
+    b, terms = logic
+    i, y = cell
+    s = machine[1][1]
+    word = format(y % 2 ** b, f"0{b}b") + (format(i, f"0{s}b") if s else "")
+    digits = {
+        digit for pattern, digit in terms
+        if all(sign == "-" or sign == bit for sign, bit in zip(pattern, word, strict=True))
+    }
+    return digits.pop() if len(digits) == 1 else None
+
+
+def plain_fits(machine, logic, i, y):
+    """Whether a cell has a digit and the logic gives it: None if the cell has no digit."""
+    lowest, string = machine[2][i]
+    known = dict(enumerate(string, lowest))
+    if y not in known:
+        return None
+    half = 2 ** (logic[0] - 1)
+    return -half <= y < half and plain_output(machine, logic, (i, y)) == known[y]
+
+
+def plain_bad(machine, n):
+    """The pairs (d, x) of the bad operands of a width, ascending."""
+    scheme, look, table = machine
+    found = []
+    for x, d, _ in all_operands(scheme, "one", n):
+        i, y = plain_cell(scheme, look, x, d, n)
+        lowest, string = table[i]
+        known = dict(enumerate(string, lowest))
+        if y not in known or not plain_suits(scheme, "one", (x, d, n), known[y]):
+            found.append((d, x))
+    return tuple(sorted(found))
+
+
+def shorter(machine, i, left, right):
+    """The machine without some digits at the two ends of a row."""
+    scheme, look, table = machine
+    lowest, string = table[i]
+    row = (lowest + left, string[left:len(string) - right])
+    return (scheme, look, table[:i] + (row,) + table[i + 1:])
+
+
+def longer(machine, digit):
+    """The machine with a digit more at both ends of each row."""
+    scheme, look, table = machine
+    rows = tuple((lowest - 1, (digit,) + string + (digit,)) for lowest, string in table)
+    return (scheme, look, rows)

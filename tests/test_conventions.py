@@ -5,11 +5,15 @@ import unittest
 from copy import deepcopy
 
 from quotientcells import (
-    cells, convert, digits, errors, judge, machines, rounding, runs, tables,
+    cells, convert, digits, errors, judge, logic, machines, numbers, rounding, runs, tables, texts,
+    widths,
 )
 from samples import ONE_MACHINE, PAIR_MACHINE as PAIR, WRONG_MACHINE, odd_values, wrong_integers
 
 LOOK = (0, 0, "one")
+
+LOGIC = (1, (("-", 0),))
+TEXT = "divider 1 1 0 0 one\nrow -4: -1 -1 -1 0 0 1 1 1"
 
 # Of each function: its file, its parameters by name, and a call's arguments and result.
 CALLS = {
@@ -64,6 +68,26 @@ CALLS = {
         rounding, ("machine", "operands", "m", "mode"), (ONE_MACHINE, (3, 5, 2), 4, "up"), 10,
     ),
     "rounded": (rounding, ("fraction", "mode"), ((5, 2), "even"), 2),
+    "is_binary": (numbers, ("thing",), ((-3, 4),), True),
+    "to_bits": (numbers, ("fraction", "p", "mode"), ((3, 5), 4, "even"), (5, -3)),
+    "quotient": (
+        numbers, ("machine", "one", "other", "p", "mode"),
+        (ONE_MACHINE, (-3, 2), (5, -1), 4, "zero"), (-9, -1),
+    ),
+    "make_logic": (
+        logic, ("machine",), (((1, 1), LOOK, ((-1, (1, 0)),)),), (1, (("1", 1), ("0", 0))),
+    ),
+    "is_logic": (logic, ("machine", "thing"), (ONE_MACHINE, LOGIC), True),
+    "output": (logic, ("machine", "logic", "cell"), (ONE_MACHINE, LOGIC, (0, -1)), 0),
+    "judge_logic": (logic, ("machine", "logic"), (((1, 1), LOOK, ((-1, (0,)),)), LOGIC), ("fits",)),
+    "logic_holds": (
+        logic, ("machine", "logic", "thing"), (ONE_MACHINE, LOGIC, ("cell", 0, 3)), True,
+    ),
+    "least_width": (widths, ("machine",), (WRONG_MACHINE,), 2),
+    "bad_operands": (widths, ("machine", "n"), (WRONG_MACHINE, 2), ((4, 3), (5, 3))),
+    "share": (widths, ("machine", "n"), (WRONG_MACHINE, 2), (1, 24)),
+    "written": (texts, ("machine",), (ONE_MACHINE,), TEXT),
+    "read": (texts, ("text",), (TEXT,), ONE_MACHINE),
 }
 
 # The errors of the parameters other than thing.
@@ -74,7 +98,9 @@ ERRORS = {
     "m": errors.BadNumber, "number": errors.BadNumber, "kind": errors.BadNumber,
     "u": errors.BadNumber, "v": errors.BadNumber, "z": errors.BadNumber,
     "w": errors.BadNumber, "d": errors.BadNumber, "i": errors.BadNumber,
-    "most": errors.BadNumber, "fraction": errors.BadNumber,
+    "most": errors.BadNumber, "fraction": errors.BadNumber, "p": errors.BadNumber,
+    "n": errors.BadNumber, "one": errors.BadNumber, "other": errors.BadNumber,
+    "logic": errors.BadLogic,
 }
 
 # These two have one error for all that stands behind the machine.
@@ -85,6 +111,8 @@ def outcome(function, arguments):
     """What a call gives: its result, or its error's class and thing."""
     try:
         return ("result", function(*arguments))
+    except errors.BadText as error:
+        return (type(error), error.at)
     except errors.DividerError as error:
         return (type(error), error.thing)
 
@@ -117,6 +145,9 @@ class ConventionsTest(unittest.TestCase):
             self.assertEqual(thing, called[1:])
             for one, other in zip(thing, called[1:]):
                 self.assertIs(one, other)
+        elif name == "read":
+            # None of the wrong values has a first line.
+            self.assertEqual((found, thing), (errors.BadText, 1 if isinstance(called[0], str) else 0))
         else:
             self.assertIs(found, ERRORS[parameters[at]], (name, called))
             self.assertIs(thing, called[at], (name, called))
@@ -152,7 +183,8 @@ class ConventionsTest(unittest.TestCase):
             if parameters[-1] != "thing":
                 continue
             for thing in odd_values() + wrong_integers():
-                self.assertIs(getattr(module, name)(*arguments[:-1], thing), False)
+                right = name == "is_binary" and thing == (3, 0)
+                self.assertIs(getattr(module, name)(*arguments[:-1], thing), right)
 
     def test_arguments_are_not_changed(self):
         for name, (module, parameters, arguments, _) in CALLS.items():
@@ -181,11 +213,22 @@ class ConventionsTest(unittest.TestCase):
                 self.assertIs(function(thing), False)
             self.assertIs(machines.is_operands((1, 1), "one", thing), False)
             self.assertIs(cells.digit_holds((1, 1), LOOK, (0, 0), 1, thing), False)
+            self.assertIs(judge.machine_holds(ONE_MACHINE, thing), False)
+            self.assertIs(tables.look_holds((1, 1), LOOK, thing), False)
+            self.assertIs(numbers.is_binary(thing), False)
+            self.assertIs(logic.is_logic(ONE_MACHINE, thing), False)
+            self.assertIs(logic.logic_holds(ONE_MACHINE, LOGIC, thing), False)
             for function, rest, error in (
                 (convert.registers, ((),), errors.BadScheme),
                 (runs.run, ((3, 5, 2), 2), errors.BadMachine),
                 (machines.estimate, (3, 5, 2), errors.BadMachine),
                 (cells.suitable, (LOOK, (0, 0)), errors.BadScheme),
+                (tables.choices, (LOOK,), errors.BadScheme),
+                (judge.is_right, (), errors.BadMachine),
+                (numbers.quotient, ((3, 0), (5, 0), 4, "up"), errors.BadMachine),
+                (widths.share, (2,), errors.BadMachine),
+                (texts.written, (), errors.BadMachine),
+                (rounding.rounded, ("up",), errors.BadNumber),
             ):
                 self.assertEqual(outcome(function, (thing,) + rest), (error, thing))
 

@@ -4,37 +4,14 @@ from random import Random
 from quotientcells.errors import BadMachine, BadNumber, BadOperands
 from quotientcells.judge import finished, is_right, judge_machine, machine_holds
 from samples import (
-    LOOKS, ONE_MACHINE, PAIR_MACHINE, SCHEMES, WRONG_MACHINE, WRONG_OPERANDS, WRONG_PAIRS,
-    all_operands, odd_values, outline_lots, outline_machine, plain_bounds, plain_errs,
-    plain_finished, plain_quotient, plain_right, with_digit, words_of, wrong_integers,
+    LOOKS, ONE_MACHINE, PAIR_MACHINE, RIGHT, SCHEMES, WRONG_MACHINE, WRONG_OPERANDS,
+    WRONG_PAIRS, all_operands, longer, odd_values, outline_lots, outline_machine, plain_bounds,
+    plain_errs, plain_finished, plain_quotient, plain_right, shorter, with_digit, words_of,
+    wrong_integers,
 )
-
-# Schemes and looks with a right machine.
-RIGHT = (
-    ((1, 1), (0, 0, "one")), ((1, 1), (0, 0, "pair")), ((1, 1), (2, 1, "pair")),
-    ((2, 2), (2, 3, "one")), ((2, 2), (3, 3, "pair")), ((2, 3), (0, 1, "one")),
-    ((2, 3), (1, 2, "pair")), ((3, 6), (1, 4, "one")), ((3, 7), (1, 3, "one")),
-    ((3, 7), (2, 3, "pair")),
-)
-
 
 def digits_of(scheme):
     return range(-scheme[1], scheme[1] + 1)
-
-
-def shorter(machine, i, left, right):
-    """The machine without some digits at the two ends of a row."""
-    scheme, look, table = machine
-    lowest, string = table[i]
-    row = (lowest + left, string[left:len(string) - right])
-    return (scheme, look, table[:i] + (row,) + table[i + 1:])
-
-
-def longer(machine, digit):
-    """The machine with a digit more at both ends of each row."""
-    scheme, look, table = machine
-    rows = tuple((lowest - 1, (digit,) + string + (digit,)) for lowest, string in table)
-    return (scheme, look, rows)
 
 
 class FinishedTest(unittest.TestCase):

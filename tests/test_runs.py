@@ -4,9 +4,11 @@ from random import Random
 from quotientcells.errors import BadMachine, BadNumber, BadOperands, BadScheme
 from quotientcells.runs import is_in_bounds, reduced, remainders, run
 from samples import (
-    LOOKS, ONE_MACHINE, PAIR_MACHINE, SCHEMES, WRONG_OPERANDS, WRONG_PAIRS, all_operands,
-    odd_values, outline_machine, plain_bounds, plain_reduced, plain_run, plain_value, words_of, wrong_integers,
+    LOOKS, ONE_MACHINE, PAIR_MACHINE, RIGHT, SCHEMES, WRONG_OPERANDS, WRONG_PAIRS, all_operands,
+    odd_values, outline_machine, plain_bounds, plain_reduced, plain_run, plain_value, words_of,
+    wrong_integers,
 )
+
 
 class ReducedTest(unittest.TestCase):
     def test_example(self):
@@ -158,11 +160,7 @@ class RunTest(unittest.TestCase):
         self.assertEqual(run(machine, (0, 5, 2), 40), ((0,) * 40, 0))
 
     def test_right_machines_stay_in_bounds(self):
-        for scheme, look in (
-            ((1, 1), (0, 0, "one")), ((1, 1), (0, 0, "pair")), ((2, 2), (2, 3, "one")),
-            ((2, 2), (3, 3, "pair")), ((2, 3), (0, 1, "one")), ((2, 3), (1, 2, "pair")),
-            ((3, 6), (1, 4, "one")), ((3, 7), (1, 3, "one")), ((3, 7), (2, 3, "pair")),
-        ):
+        for scheme, look in RIGHT:
             machine = outline_machine(scheme, look)
             for operands in list(all_operands(scheme, look[2], 3))[::5]:
                 passed = remainders(machine, operands, 6)
